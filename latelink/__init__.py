@@ -1,0 +1,1 @@
+"""Latelink: a doubly linked list whose unlinked nodes keep their links."""

@@ -1,0 +1,46 @@
+"""What the tests share: a test case that knows the errors of the program, and watches the arguments of a call."""
+
+import unittest
+
+from latelink.errors import LinkError
+from latelink.links import Links
+
+
+def frozen(value):
+    """The value as it is now, to compare it with itself later."""
+    if isinstance(value, Links):
+        return value.dump()
+    if isinstance(value, (list, tuple)):
+        return [frozen(member) for member in value]
+    return value
+
+
+class LinkCase(unittest.TestCase):
+    def told(self, function, *values, **named):
+        """What the call returns; it has changed none of its arguments."""
+        before = frozen(list(values))
+        result = function(*values, **named)
+        self.assertEqual(frozen(list(values)), before, "an argument has changed")
+        return result
+
+    def assert_told(self, expected, function, *values, **named):
+        """The call returns this value, and the value is of this very kind."""
+        result = self.told(function, *values, **named)
+        self.assertEqual(result, expected)
+        self.assertIs(type(result), type(expected))
+
+    def assert_new(self, function, *values, **named):
+        """Each call returns a list of its own."""
+        first = function(*values, **named)
+        kept = frozen(first)
+        first.append("changed")
+        self.assertEqual(frozen(function(*values, **named)), kept)
+
+    def assert_error(self, expected, function, *values, **named):
+        """The call raises this error with these attributes, and changes none of its arguments."""
+        before = frozen(list(values))
+        with self.assertRaises(LinkError) as caught:
+            function(*values, **named)
+        self.assertEqual(frozen(list(values)), before, "an argument has changed")
+        self.assertIs(type(caught.exception), type(expected))
+        self.assertEqual(list(vars(caught.exception).items()), list(vars(expected).items()))
