@@ -42,8 +42,8 @@ class Links:
         return 1 <= node <= self.size and not self._out[node]
 
     def __eq__(self, other):
-        return (isinstance(other, Links) and self.size == other.size and self._rights == other._rights
-                and self._lefts == other._lefts and self._out == other._out)
+        return (isinstance(other, Links) and self._rights == other._rights and self._lefts == other._lefts
+                and self._out == other._out)
 
     def __str__(self):
         return str(self.dump())

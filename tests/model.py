@@ -3,6 +3,9 @@
 from itertools import combinations, product
 
 
+MODES = ("free", "saving", "guarded", "checked")
+
+
 class Model:
     """A standing as three plain values: right links, left links, and the nodes that are out."""
 
@@ -31,6 +34,44 @@ class Model:
         present = [v for v in range(self.size + 2) if v not in self.out]
         pairs = list(zip(present, present[1:]))
         return all(self.right[a] == b for a, b in pairs) and all(self.left[b] == a for a, b in pairs)
+
+    def copy(self):
+        return of_dump(self.dump())
+
+    def is_lost(self):
+        return "lost" in self.states()
+
+    def sole_holders(self):
+        """Point 15."""
+        sides = {"left": 0, "right": 1}
+        return {v + sides[state] for v, state in enumerate(self.states()) if state in sides}
+
+    def legal(self):
+        return [x if x in self.out else -x for x in range(1, self.size + 1)]
+
+    def foreign_writes(self, operation):
+        """Point 16."""
+        x = abs(operation)
+        l, r = self.left[x], self.right[x]
+        found = [l] if l != x - 1 and self.right[l] == l + 1 else []
+        return found + ([r - 1] if r != x + 1 and self.left[r] == r - 1 else [])
+
+    def refused_by(self, operation):
+        """Point 20: the modes that refuse a legal operation."""
+        later = self.copy()
+        later.apply(operation)
+        lost = [was != "lost" and now == "lost" for was, now in zip(self.states(), later.states())]
+        forced = []
+        for gap in self.foreign_writes(operation):
+            state = later.states()[gap]
+            holder = gap if state == "left" else gap + 1
+            forced.append(state == "lost" or holder not in later.out)
+        x = abs(operation)
+        l, r = self.left[x], self.right[x]
+        wanted = (x, x) if operation < 0 else (r, l)
+        fits = l not in self.out and r not in self.out and (self.right[l], self.left[r]) == wanted
+        told = {"saving": any(lost), "guarded": any(forced), "checked": not fits}
+        return [mode for mode in MODES if told.get(mode)]
 
     def states(self):
         told = []
@@ -87,6 +128,24 @@ def all_logs(size, longest):
 
 def is_legal(size, log):
     return signed([abs(operation) for operation in log]) == log
+
+
+def reached(size, longest, mode="free"):
+    """The dumps that the mode reaches from the whole list in up to this many operations, each with its least log."""
+    found = {Model(size).dump(): []}
+    level = list(found)
+    for _ in range(longest):
+        further = []
+        for dump in level:
+            for operation in of_dump(dump).legal():
+                later = of_dump(dump)
+                if mode not in later.refused_by(operation):
+                    later.apply(operation)
+                    if later.dump() not in found:
+                        found[later.dump()] = found[dump] + [operation]
+                        further.append(later.dump())
+        level = further
+    return found
 
 
 def all_dumps(size):
