@@ -39,7 +39,8 @@ def is_gap_certificate(size, log, gap, value):
         return False
     state, right_write, left_write = value
     # 1 == True and 0 == False, but True and False are no integers here.
-    return isinstance(state, str) and _is_integer(right_write) and _is_integer(left_write) and value == certificate
+    are_integers = is_plain_integer(right_write) and is_plain_integer(left_write)
+    return isinstance(state, str) and are_integers and value == certificate
 
 
 def first_loss(size, log):
@@ -55,5 +56,6 @@ def first_loss(size, log):
     return loss
 
 
-def _is_integer(value):
+def is_plain_integer(value):
+    """True exactly if the value, of whatever kind, is an integer other than True and False."""
     return isinstance(value, int) and not isinstance(value, bool)

@@ -1,9 +1,14 @@
 """What the tests share: a test case that knows the errors of the program, and watches the arguments of a call."""
 
+import time
 import unittest
 
 from latelink.errors import LinkError
 from latelink.links import Links
+from tests.model import Model
+
+# "At once" is far less than this; what goes through all orders or standings of a long list takes far more.
+MOST_SECONDS = 10
 
 
 def frozen(value):
@@ -13,6 +18,15 @@ def frozen(value):
     if isinstance(value, (list, tuple)):
         return [frozen(member) for member in value]
     return value
+
+
+def made(size, rights, lefts, *outs):
+    """The standing with these links instead of those of the whole list, and with these nodes out."""
+    model = Model(size)
+    model.right.update(rights)
+    model.left.update(lefts)
+    model.out.update(outs)
+    return Links.read(model.dump())
 
 
 class LinkCase(unittest.TestCase):
@@ -28,6 +42,13 @@ class LinkCase(unittest.TestCase):
         result = self.told(function, *values, **named)
         self.assertEqual(result, expected)
         self.assertIs(type(result), type(expected))
+
+    def at_once(self, function, *values, **named):
+        """What the call returns; it does not take long."""
+        start = time.process_time()
+        result = self.told(function, *values, **named)
+        self.assertLess(time.process_time() - start, MOST_SECONDS, function.__name__)
+        return result
 
     def assert_new(self, function, *values, **named):
         """Each call returns a list of its own."""

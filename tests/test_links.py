@@ -254,6 +254,11 @@ class EqualityTest(LinkCase):
         for dump in ("1 3 3 | 0 1 2 | none", "1 2 3 | 0 0 2 | none", "1 2 3 | 0 1 2 | 2"):
             self.assertFalse(Links.read(dump) == Links.read(whole))
 
+    def test_only_equal_standings_share_a_key(self):
+        standings = [Links.read(dump) for size in (0, 1, 2) for dump in all_dumps(size)]
+        self.assertEqual(len({links.key() for links in standings}), len(standings))
+        self.assertEqual(applied(3, [-1, 1]).key(), Links(3).key())
+
     def test_a_copy_shares_nothing(self):
         for log in ([], [-1, -2, 1]):
             links = applied(3, log)
