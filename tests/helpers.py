@@ -4,6 +4,7 @@ import time
 import unittest
 
 from latelink.errors import LinkError
+from latelink.forest import Forest
 from latelink.links import Links
 from tests.model import Model
 
@@ -15,6 +16,8 @@ def frozen(value):
     """The value as it is now, to compare it with itself later."""
     if isinstance(value, Links):
         return value.dump()
+    if isinstance(value, Forest):
+        return str(value)
     if isinstance(value, (list, tuple)):
         return [frozen(member) for member in value]
     return value

@@ -175,6 +175,17 @@ class FormTest(unittest.TestCase):
                 for value in node.args:
                     self.assertNotIsInstance(value, ast.GeneratorExp, (name, node.lineno))
 
+    def test_powers_and_stars(self):
+        """L7, L27: a power has a literal exponent, and behind a star in a call stands no call."""
+        for name, node in nodes():
+            if isinstance(node, ast.BinOp) and isinstance(node.op, ast.Pow):
+                self.assertIsInstance(node.right, ast.Constant, (name, node.lineno))
+            if isinstance(node, ast.Call):
+                starred = [value.value for value in node.args if isinstance(value, ast.Starred)]
+                starred += [keyword.value for keyword in node.keywords if keyword.arg is None]
+                for value in starred:
+                    self.assertIsInstance(value, (ast.Name, ast.Attribute), (name, node.lineno))
+
     def test_raises_and_handlers(self):
         """L19."""
         for name, node in nodes():
