@@ -56,6 +56,12 @@ def foreign_writes(links, operation):
     return written
 
 
+def left_to(operation, gap):
+    """Returns the node that alone can still hold the gap after a foreign write of the operation there."""
+    # The link that is overwritten is that of the side farther from the node of the operation.
+    return gap + 1 if gap < abs(operation) else gap
+
+
 def check_gap(size, gap):
     """Raises BadGap unless the integer is a gap of a list of the size."""
     if not 0 <= gap <= size:

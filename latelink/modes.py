@@ -1,9 +1,9 @@
 """Modes: which legal operations are admitted."""
 
 from latelink.errors import BadMode, Refused
-from latelink.gaps import foreign_writes, gap_changes, gap_state
+from latelink.gaps import foreign_writes, gap_state, left_to
 from latelink.links import Links, check_size
-from latelink.replay import play, replay
+from latelink.replay import replay
 
 
 class FreeMode:
@@ -58,10 +58,15 @@ class CheckedMode(GuardedMode):
 
 def mode_named(mode):
     """Returns an object of the class with this name."""
-    for known in (FreeMode(), SavingMode(), GuardedMode(), CheckedMode()):
+    for known in all_modes():
         if known.NAME == mode:
             return known
     raise BadMode(mode)
+
+
+def all_modes():
+    """Returns an object of each class, from the weakest mode on."""
+    return [FreeMode(), SavingMode(), GuardedMode(), CheckedMode()]
 
 
 def admits(links, operation, *, mode="free"):
@@ -81,10 +86,7 @@ def replay_in(size, log, *, mode="free"):
     links = Links(size)
     judge = mode_named(mode)
     for index, operation in enumerate(log):
-        links.check(operation, index)
-        refusing = judge.refusal(links, operation)
-        if refusing != "":
-            raise Refused(operation, index, refusing)
+        check_admitted(links, operation, index, judge)
         links.apply(operation)
     return links
 
@@ -103,19 +105,22 @@ def first_refusal(size, log, *, mode="free"):
     return None
 
 
+def check_admitted(links, operation, index, judge):
+    """Raises an error, with this index, unless the operation can be applied and the mode, an object, admits it."""
+    links.check(operation, index)
+    refusing = judge.refusal(links, operation)
+    if refusing != "":
+        raise Refused(operation, index, refusing)
+
+
 def _loses_a_gap(links, operation):
-    return any([change[2] == "lost" for change in gap_changes(links, operation)])
+    # Only a foreign write loses a gap, and only one that had no other holder.
+    return any([gap_state(links, gap) != "joined" for gap in foreign_writes(links, operation)])
 
 
 def _leaves_a_gap_to_a_holder_that_is_in(links, operation):
     """True exactly if an operation that the saving mode admits makes such a foreign write."""
-    after = play(links, [operation])
-    for gap in foreign_writes(links, operation):
-        # A foreign write never leaves a gap joined, and the saving mode has refused all that lose one.
-        holder = gap if gap_state(after, gap) == "left" else gap + 1
-        if not after.is_out(holder):
-            return True
-    return False
+    return any([not links.is_out(left_to(operation, gap)) for gap in foreign_writes(links, operation)])
 
 
 def _has_fitting_neighbours(links, operation):

@@ -2,7 +2,7 @@
 
 from latelink.debts import check_repairable, debt_of, due_nodes
 from latelink.errors import BadCount, BadNode, Barred, LogError, TooMany
-from latelink.gaps import foreign_writes, gap_state
+from latelink.gaps import foreign_writes, gap_state, left_to
 from latelink.replay import play
 
 MOST_DEBT = 12
@@ -80,8 +80,7 @@ def _steps(links, due):
 def _spoils_nothing(links, operation, due):
     """True exactly if no foreign write of the operation loses a gap or makes a node due."""
     for gap in foreign_writes(links, operation):
-        holder = gap + 1 if gap < abs(operation) else gap
-        if gap_state(links, gap) != "joined" or holder not in due:
+        if gap_state(links, gap) != "joined" or left_to(operation, gap) not in due:
             return False
     return True
 

@@ -20,6 +20,8 @@ def frozen(value):
         return str(value)
     if isinstance(value, (list, tuple)):
         return [frozen(member) for member in value]
+    if isinstance(value, dict):
+        return [(key, frozen(member)) for key, member in value.items()]
     return value
 
 
