@@ -37,7 +37,7 @@ def forest_at(size, place):
     low = 0
     while low <= size:
         rest = size - low
-        first, place = _locate(_first_blocks(rest), place)
+        first, place = locate(_first_blocks(rest), place)
         tree, place = divmod(place, _count_rests(rest - first - 1))
         removal.extend(_tree_at(low, first, tree))
         low = low + first + 1
@@ -85,13 +85,13 @@ def _tree_at(low, count, place):
     """Returns a removal of the count of nodes behind low that leads to the tree at this place."""
     if count == 0:
         return []
-    before, place = _locate(_root_blocks(count), place)
+    before, place = locate(_root_blocks(count), place)
     left, right = divmod(place, _count_trees(count - 1 - before))
     root = low + before + 1
     return _tree_at(low, before, left) + _tree_at(root, count - 1 - before, right) + [root]
 
 
-def _locate(blocks, place):
+def locate(blocks, place):
     """Returns the index of the block that the place is in, if blocks of these lengths follow each other, and the
     place within this block."""
     index = 0

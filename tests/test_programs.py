@@ -118,10 +118,11 @@ class ProgramsTest(LinkCase):
 
     def test_the_size_comes_first(self):
         for size in (-1, 61):
-            for function in TAKING_PROGRAMS:
-                self.assert_error(BadSize(size), function, size, [[0]])
-            self.assert_error(BadSize(size), is_safe_table, size, [[0]], [])
-            self.assert_error(BadSize(size), weave, size, [0], schedule=[7])
+            for programs in ([[0]], [[]], []):
+                for function in TAKING_PROGRAMS:
+                    self.assert_error(BadSize(size), function, size, programs)
+                self.assert_error(BadSize(size), is_safe_table, size, programs, [])
+                self.assert_error(BadSize(size), weave, size, *programs, schedule=[7])
 
 
 class StackTest(LinkCase):
